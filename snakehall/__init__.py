@@ -1,0 +1,1 @@
+"""Snakehall: a small language of indents, walked and run."""
