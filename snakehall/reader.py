@@ -15,9 +15,9 @@ class Reader:
 
     def seen(self):
         """The piece that comes, or one that is like no other where none comes."""
-        if self.at < len(self.pieces):
-            return self.pieces[self.at]
-        return ("end", "")
+        if self.is_done():
+            return ("end", "")
+        return self.pieces[self.at]
 
     def step(self):
         """Goes past the piece that comes."""
@@ -42,9 +42,13 @@ class Reader:
         self.step()
         return told
 
+    def is_done(self):
+        """Whether no piece comes any more."""
+        return self.at == len(self.pieces)
+
     def need_end(self):
         """Refused where a piece comes still."""
-        if self.at < len(self.pieces):
+        if not self.is_done():
             raise BadRow(0)
 
     def enter(self, bracket):

@@ -17,11 +17,49 @@ BUILTINS = (
     "ZeroDivisionError ArithmeticError OverflowError RuntimeError NotImplementedError AttributeError StopIteration "
     "NotImplemented super"
 ).split()
+METHODS = (
+    "append clear copy count endswith extend find get index insert isalnum isalpha isdigit islower isspace isupper items "
+    "join keys ljust lower lstrip partition pop remove replace reverse rfind rjust rpartition rsplit rstrip setdefault "
+    "split splitlines startswith strip update upper values zfill bit_length add discard"
+).split()
+BARRED_ATTRIBUTES = (
+    "items keys values pop update append clear extend insert remove reverse setdefault sort args encode decode hex fromhex "
+    "format format_map mro"
+).split()
+STATEMENTS = (
+    ast.Assign, ast.AugAssign, ast.If, ast.While, ast.For, ast.Return, ast.Break, ast.Continue, ast.Pass, ast.Raise,
+    ast.Assert, ast.Delete, ast.Try, ast.Expr, ast.FunctionDef, ast.ClassDef, ast.ImportFrom,
+)
 TOP = (ast.ImportFrom, ast.FunctionDef, ast.ClassDef, ast.Assign, ast.Expr)
 
 
 def tree_of_file(path):
     return ast.parse(path.read_text(encoding="ascii"))
+
+
+def nodes():
+    """All nodes of all files."""
+    return [node for path in FILES for node in ast.walk(tree_of_file(path))]
+
+
+def own_methods():
+    """The names of all methods that classes of the package define."""
+    return {
+        row.name for node in nodes() if isinstance(node, ast.ClassDef) for row in node.body
+        if isinstance(row, ast.FunctionDef)
+    }
+
+
+def own_attributes():
+    """The names of all attributes that are assigned anywhere in the package."""
+    return {node.attr for node in nodes() if isinstance(node, ast.Attribute) and isinstance(node.ctx, ast.Store)}
+
+
+def imports_of(path):
+    """The names of the files that a file imports from."""
+    return {
+        node.module.partition(".")[2] for node in ast.walk(tree_of_file(path)) if isinstance(node, ast.ImportFrom)
+    }
 
 
 class Language(unittest.TestCase):
@@ -50,6 +88,29 @@ class Language(unittest.TestCase):
         for path in FILES:
             for node in tree_of_file(path).body:
                 self.assertIsInstance(node, TOP, path.name)
+
+    def test_l4_functions(self):
+        for node in nodes():
+            if isinstance(node, ast.FunctionDef):
+                self.assertEqual(node.decorator_list, [])
+                self.assertEqual((node.args.posonlyargs, node.args.kwonlyargs), ([], []))
+            self.assertNotIsInstance(node, (ast.AsyncFunctionDef, ast.Yield, ast.YieldFrom, ast.Await))
+
+    def test_l6_statements(self):
+        for node in nodes():
+            if isinstance(node, ast.stmt):
+                self.assertIsInstance(node, STATEMENTS)
+            if isinstance(node, ast.ExceptHandler):
+                self.assertIsInstance(node.type, ast.Name)
+            if isinstance(node, ast.Try):
+                self.assertEqual(node.finalbody, [])
+            if isinstance(node, ast.Raise) and node.exc is not None:
+                self.assertIsInstance(node.exc, ast.Call)
+                self.assertIsInstance(node.exc.func, ast.Name)
+
+    def test_l7_no_floats_and_no_division(self):
+        for node in nodes():
+            self.assertNotIsInstance(node, (ast.Div, ast.NamedExpr))
 
     def test_l8_builtins(self):
         known = set(dir(__builtins__)) if not isinstance(__builtins__, dict) else set(__builtins__)
@@ -93,6 +154,62 @@ class Language(unittest.TestCase):
                 elif not isinstance(node, ast.Expr):
                     names.append(node.name)
             self.assertEqual(len(names), len(set(names)))
+
+    def test_l15_names_of_parameters_and_variables(self):
+        for path in FILES:
+            tree = tree_of_file(path)
+            taken = {node.name for node in tree.body if isinstance(node, ast.ClassDef)}
+            for node in tree.body:
+                if isinstance(node, ast.ImportFrom):
+                    taken |= {each.name for each in node.names}
+            for node in ast.walk(tree):
+                if isinstance(node, ast.arg):
+                    self.assertNotIn(node.arg, taken)
+                if isinstance(node, ast.Name) and isinstance(node.ctx, ast.Store):
+                    self.assertNotIn(node.id, taken)
+
+    def test_l16_no_two_files_import_from_each_other(self):
+        ways = {path.stem: imports_of(path) for path in FILES}
+        done = set()
+        while len(done) < len(ways):
+            ready = [name for name in ways if name not in done and ways[name] <= done]
+            self.assertTrue(ready, sorted(set(ways) - done))
+            done.update(ready)
+
+    def test_l16_a_name_is_imported_from_the_file_that_defines_it(self):
+        for path in FILES:
+            for node in ast.walk(tree_of_file(path)):
+                if isinstance(node, ast.ImportFrom):
+                    other = tree_of_file(PACKAGE / (node.module.partition(".")[2] + ".py"))
+                    defined = {row.name for row in other.body if isinstance(row, (ast.FunctionDef, ast.ClassDef))}
+                    for row in other.body:
+                        if isinstance(row, ast.Assign):
+                            defined |= {target.id for target in row.targets}
+                    self.assertLessEqual({each.name for each in node.names}, defined)
+
+    def test_l18_methods_and_attributes(self):
+        self.assertEqual(own_methods() & own_attributes(), set())
+        for node in nodes():
+            if isinstance(node, ast.ClassDef):
+                names = [row.name for row in node.body if isinstance(row, ast.FunctionDef)]
+                self.assertEqual(len(names), len(set(names)), node.name)
+
+    def test_l20_is(self):
+        for node in nodes():
+            if isinstance(node, ast.Compare):
+                for sign, other in zip(node.ops, node.comparators):
+                    if isinstance(sign, (ast.Is, ast.IsNot)):
+                        self.assertIsInstance(other, ast.Constant)
+                        self.assertIn(other.value, (None, True, False))
+
+    def test_l25_methods_of_builtin_values(self):
+        known = set(METHODS) | own_methods()
+        for node in nodes():
+            if isinstance(node, ast.Call) and isinstance(node.func, ast.Attribute):
+                self.assertIn(node.func.attr, known)
+
+    def test_l26_attributes(self):
+        self.assertEqual(own_attributes() & set(BARRED_ATTRIBUTES), set())
 
     def test_l17_words(self):
         for path in FILES:
