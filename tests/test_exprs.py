@@ -221,6 +221,10 @@ class NoExpressions(unittest.TestCase):
             self.none(begin + "[" * 8 + "]" * 8 + end)
         self.none("[" * 9 + "]" * 9, "[" * 8 + "a()" + "]" * 8, "[" * 8 + "{}" + "]" * 8)
 
+    def test_a_ninth_bracket_behind_others_that_are_ended(self):
+        for ended in ("[]", "[[], []]", "a()", "a[b]", "{}", "(not a)", "size(a)"):
+            self.none("[" + ended + ", " + "[" * 8 + "]" * 8 + "]", "a[" + ended + "]" + "[" * 9 + "]" * 9)
+
     def test_brackets_far_too_deep(self):
         for bracket in ("[", "(", "{", "a(", "a[", "pull(", "(not "):
             self.none(bracket * 5000)
