@@ -62,6 +62,10 @@ class Hall:
         """The list of the numbers of the things gone, in order."""
         return list(self.left)
 
+    def many(self):
+        """How many things are there."""
+        return len(self.there)
+
     def all_there(self):
         """The list of the things that are there, by numbers."""
         return [self.there[number] for number in self.things()]

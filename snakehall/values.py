@@ -15,6 +15,16 @@ class Named:
         self.title = title
 
 
+def is_number(value):
+    """Whether a value is a number; to Python yes and no are some, too."""
+    return isinstance(value, int) and not isinstance(value, bool)
+
+
+def is_form(value, form):
+    """Whether a value is a thing of this form."""
+    return isinstance(value, Thing) and value.form == form
+
+
 def is_so(value):
     """Whether a condition holds that has this value."""
     if isinstance(value, Thing):
