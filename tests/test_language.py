@@ -30,6 +30,8 @@ STATEMENTS = (
     ast.Assign, ast.AugAssign, ast.If, ast.While, ast.For, ast.Return, ast.Break, ast.Continue, ast.Pass, ast.Raise,
     ast.Assert, ast.Delete, ast.Try, ast.Expr, ast.FunctionDef, ast.ClassDef, ast.ImportFrom,
 )
+TAKERS = "list tuple dict sorted sum any all enumerate zip bytes min max len".split()
+CHANGES = "append clear extend insert pop remove reverse setdefault update sort".split()
 TOP = (ast.ImportFrom, ast.FunctionDef, ast.ClassDef, ast.Assign, ast.Expr)
 
 
@@ -88,6 +90,17 @@ class Language(unittest.TestCase):
         for path in FILES:
             for node in tree_of_file(path).body:
                 self.assertIsInstance(node, TOP, path.name)
+
+    def test_l3_and_l15_tables_at_module_level(self):
+        for path in FILES:
+            above = set()
+            for node in tree_of_file(path).body:
+                if isinstance(node, ast.FunctionDef):
+                    above.add(node.name)
+                if isinstance(node, ast.Assign):
+                    inner = [part for part in ast.walk(node.value) if part is not node.value]
+                    self.assertFalse([part for part in inner if isinstance(part, (ast.List, ast.Dict, ast.Call))], path.name)
+                    self.assertLessEqual({part.id for part in inner if isinstance(part, ast.Name)}, above, path.name)
 
     def test_l4_functions(self):
         for node in nodes():
@@ -201,6 +214,38 @@ class Language(unittest.TestCase):
                     if isinstance(sign, (ast.Is, ast.IsNot)):
                         self.assertIsInstance(other, ast.Constant)
                         self.assertIn(other.value, (None, True, False))
+
+    def test_l23_iterated_at_once(self):
+        for path in FILES:
+            fine = set()
+            for node in ast.walk(tree_of_file(path)):
+                if isinstance(node, (ast.For, ast.comprehension)):
+                    fine.add(ast.dump(node.iter, include_attributes=True))
+                if isinstance(node, ast.Call) and isinstance(node.func, ast.Name) and node.func.id in TAKERS and node.args:
+                    fine.add(ast.dump(node.args[0], include_attributes=True))
+            for node in ast.walk(tree_of_file(path)):
+                if isinstance(node, ast.Call):
+                    name = getattr(node.func, "id", getattr(node.func, "attr", None))
+                    if name in ("zip", "enumerate", "reversed", "range", "items", "keys", "values"):
+                        self.assertIn(ast.dump(node, include_attributes=True), fine, path.name)
+
+    def test_l23_what_a_loop_goes_over_is_not_changed_in_it(self):
+        for node in nodes():
+            if isinstance(node, ast.For):
+                over = {ast.dump(part) for part in ast.walk(node.iter) if isinstance(part, (ast.Name, ast.Attribute))}
+                for part in [part for row in node.body for part in ast.walk(row)]:
+                    if isinstance(part, ast.Call) and isinstance(part.func, ast.Attribute) and part.func.attr in CHANGES:
+                        self.assertNotIn(ast.dump(part.func.value), over)
+                    if isinstance(part, ast.Subscript) and not isinstance(part.ctx, ast.Load):
+                        self.assertNotIn(ast.dump(part.value), over)
+
+    def test_l19_names_of_caught_errors(self):
+        for node in nodes():
+            if isinstance(node, ast.FunctionDef):
+                names = [each.name for each in ast.walk(node) if isinstance(each, ast.ExceptHandler) and each.name]
+                stored = [each.id for each in ast.walk(node) if isinstance(each, ast.Name) and isinstance(each.ctx, ast.Store)]
+                self.assertEqual(len(names + stored), len(names) + len([each for each in stored if each not in names]))
+                self.assertEqual(len(names), len(set(names)), node.name)
 
     def test_l25_methods_of_builtin_values(self):
         known = set(METHODS) | own_methods()
