@@ -1,8 +1,10 @@
 """Promise [23]: what is told of a program."""
 
+import inspect
+import sys
 import unittest
 
-from programs import Programs
+from programs import Programs, unindented
 from snakehall.making import made
 from snakehall.machine import ran
 from snakehall.trees import tree_of
@@ -193,6 +195,42 @@ class TheAskersOwn(unittest.TestCase):
 
 
 class Bounds(Programs):
+    # A being whose end asks loops, which are left by errors that hold beings, and so on, as deep as calls can be.
+    DEEP = """
+        kind K():
+          deed begin(self, n):
+            self.n = n
+          deed end(self):
+            say self.n
+            try:
+              for x in l((self.n + 1)):
+                raise Error(K((self.n + 1)))
+            finally:
+              x = [K((self.n + 1))]
+              x = none
+        deed l(n):
+          try:
+            for y in [K(n), K(n)]:
+              y = none
+              hand K(n)
+          finally:
+            z = K(n)
+            z = none
+            raise Error(K(n))
+        K(0)
+    """
+
+    def test_calls_of_python_stay_few(self):
+        result = self.run_text(self.DEEP)
+        self.assertEqual(max(result.depths), 12)
+        limit = sys.getrecursionlimit()
+        sys.setrecursionlimit(len(inspect.stack()) + 350)
+        try:
+            told = [tell([], 3000) for tell in both(unindented(self.DEEP))]
+        finally:
+            sys.setrecursionlimit(limit)
+        self.assertEqual(told, [result.whole] * 2)
+
     def test_long_programs(self):
         result = self.run_text("\n".join(["a = 0"] + ["a = (a + 1)"] * 598 + ["say a"]))
         self.assertEqual((result.said, len(result.steps)), (["598"], 600))
